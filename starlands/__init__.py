@@ -1,0 +1,1 @@
+"""Starlands: lands that take and give border cells."""

@@ -1,0 +1,212 @@
+"""Wrong values of every kind in the place of each argument."""
+
+from copy import deepcopy
+
+from starlands.errors import (
+    BadArms, BadCell, BadCount, BadLand, BadLands, BadLength, BadMap, BadOrders, BadPlaces, BadRow, BadRows, BadTaking,
+    BadValues,
+)
+from tests import plain
+
+MAP = (3, (0, 0, 0, 0, 1, 2, 2))
+
+# Each kind of argument leaves out what is right for it.
+INTEGERS = [-10 ** 30, -101, -1, 0, 1, 2, 3, 4, 5, 6, 7, 12, 13, 17, 31, 61, 101, 10 ** 30]
+WORDS = ["", "0", "ab", "(0, 0)", True, False, None]
+TUPLES = [
+    (), (0,), (True,), (0, True), (False, 0), (True, 3), ("0", 0), (None, 0), (0, None), (0, 0, 0), (0, 1, 2, 3),
+    ((),), ((True,),), ((), ()), ([], [], []), ({}, {}, {}), ("", "", ""), ("00", "00", "00"), (None, None, None),
+    ((0, 0), (0, 0)), ((True, 0), (0, 0), (0, 1)), ((0, 0), (0, 0), [0, 1]), ((0, 0), (0, 0), (0, "1")),
+    ((0, 0), (0, 0), (0, 5)), ((0, 0), (0, 0), (0, -1)), ((0, 0), (0, 0), (0, None)), ((0, 0), (0, 0), (0, (1,))),
+    (True, False, True), ((0, [0]),), ((0, {0: 0}),), (0, [0]), (0, {}), ([0], 0), ({0: 0}, 0),
+]
+LISTS = [[], [0], [0, 0], [1, 3], [[0, 0], [0, 0], [0, 1]], [(1, 3)], [3, (0, 0, 0, 0, 1, 2, 2)], [None], [True]]
+DICTS = [{}, {0: 0}, {0: 1, 1: 3}, {"a": None}, {0: [1]}, {0: {1: (2,)}}]
+MAPS = [
+    (3, [0, 0, 0, 0, 1, 2, 2]), (3, (0, 0, 0, 0, 1, 2)), (3, (0, 0, 0, 0, 1, 2, 2, 2)), (3, (0, 0, 0, 0, 0, 0, 0)),
+    (3, (0, 0, 0, 0, 1, 3, 3)), (3, (1, 1, 1, 1, 2, 2, 2)), (3, (0, 1, 0, 0, 0, 2, 2)), (3, (0, 1, 0, 0, 0, 0, 0)),
+    (3, (0, 0, 1, 0, 1, 0, 2)), (3, (0, 0, 1, 0, 2, 0, 3)), (3, (0, 0, 0, 0, 1, 2, True)),
+    (3, (False, 0, 0, 0, 1, 2, 2)),
+    (3, (0, 0, 0, 0, 1, 2, "2")), (3, (0, 0, 0, 0, 1, 2, None)), (3, (0, 0, 0, 0, 1, 2, (2,))),
+    (3, (0, 0, 0, 0, 1, 2, [2])),
+    (3, (0, 0, 0, 0, -1, 0, 1)), (3, (0, 0, 0, 0, 0, 0, 10 ** 30)), ("3", (0, 0, 0, 0, 1, 2, 2)),
+    (True, (0, 0, 0, 0, 1, 2, 2)),
+    (2, (0, 0, 0, 0, 1)), (5, (0, 0, 0, 0, 0, 1)), (3, (0, 1)), (3, ()), (3, (0,)), (4, ()), (3, "0000122"),
+    (3, {0: 0}), (3, None),
+    (3, (0, 0, 0, 0, 1, 2, 2), 0), ((0, 0, 0, 0, 1, 2, 2), 3), (3, 0), (4, (0, 0, 0, 0, 1, 2, 2)),
+    (3, (0, 0, 0, 0, 0, 0, 0, 0, 0, 0, 0, 0, 0, 0, 0, 1)), (3, ({}, 0, 0, 0, 1, 2, 2)), (3, (0, 1, 2, 3)),
+    (3, (0, 1, 0, 2)), (3, (0, 0, 0, 0, 1, 2, 2, 0)), (3, (0, 0, 0, 0, 0, 1)), (4, (0, 0, 0, 0, 0, 1, 0, 0)),
+    (3, (0, 0, 1)), (4, (0, 0, 0, 1)),
+]
+EVERYTHING = INTEGERS + WORDS + TUPLES + LISTS + DICTS + MAPS
+
+
+def is_tuple_of(value, right):
+    return type(value) is tuple and all(right(thing) for thing in value)
+
+
+def integers(low, high):
+    """A test whether a value is a tuple of integers from low to high."""
+    return lambda value: is_tuple_of(value, lambda thing: plain.is_int(thing, low, high))
+
+
+class Kind:
+    """A kind of argument: a right value, which other ones are right, and the error of the rest."""
+
+    def __init__(self, good, error, is_right, more=()):
+        self.good = good
+        self.error = error
+        self.is_right = is_right
+        self.wrong = [value for value in EVERYTHING + list(more) if not is_right(value)]
+
+
+def integer(good, error, low, high):
+    return Kind(good, error, lambda value: plain.is_int(value, low, high), [low - 1, high + 1])
+
+
+def arms(good=3, most=4):
+    return integer(good, BadArms, 3, most)
+
+
+def arm():
+    return integer(1, BadArms, 0, 2)
+
+
+def length(good=2, most=4):
+    return integer(good, BadLength, 1, most)
+
+
+def lands(good=3, most=3):
+    return integer(good, BadLands, 2, most)
+
+
+def land(good=1, most=2):
+    return integer(good, BadLand, 0, most)
+
+
+def cell():
+    return integer(3, BadCell, 0, 6)
+
+
+def count(good, low, high):
+    return integer(good, BadCount, low, high)
+
+
+def chart():
+    return Kind(MAP, BadMap, plain.is_map)
+
+
+def like_chart():
+    """A map of the island of MAP and with as many lands."""
+    unlike = [
+        (3, (0, 0, 0, 0, 0, 0, 1)), (3, (0, 0, 0, 0, 0, 0, 0, 0, 1, 2)), (4, (0, 0, 0, 0, 0, 0, 0, 1, 2)),
+        (3, (0, 0, 0, 1)),
+    ]
+
+    def is_right(value):
+        return plain.is_map(value) and plain.size_of(value) == plain.size_of(MAP)
+    return Kind((3, (0, 0, 0, 1, 1, 2, 2)), BadMap, is_right, unlike)
+
+
+def taking():
+    def is_right(value):
+        if type(value) is not tuple or len(value) != 2:
+            return False
+        return plain.is_int(value[0], 0, 2) and plain.is_int(value[1], 0, 6)
+    return Kind((1, 3), BadTaking, is_right, [(3, 0), (0, 7), (-1, 0), (0, -1), (1, 3, 0)])
+
+
+def row():
+    def is_right(value):
+        return value == () and type(value) is tuple
+    return Kind(((1, 3),), BadRow, is_right, [((1, 3), (True, 0)), ((1, 4),), ((1, 3), (1, 3)), ((1, 3), [1, 0])])
+
+
+def rows():
+    def is_right(value):
+        if not is_tuple_of(value, integers(0, 4)) or len(value) not in (3, 4):
+            return False
+        return 1 <= len(value[0]) <= 4 and len(set(map(len, value))) == 1
+    more = [((0,), (0,), (0, 1)), ((0,) * 5,) * 3, ((), (), ()), ((0, 1),) * 2, ((0, 1),) * 5]
+    return Kind(((0, 0), (0, 1), (2, 2)), BadRows, is_right, more)
+
+
+def orders():
+    def is_right(value):
+        return is_tuple_of(value, integers(0, 4)) and len(value) in (3, 4)
+    more = [((), (1,)), ((), (), (), (), (1,)), ((), (1,), (5,)), ((), (1,), (-1,))]
+    return Kind(((), (1,), (2,)), BadOrders, is_right, more)
+
+
+def places():
+    def is_right(value):
+        return is_tuple_of(value, integers(0, 1)) and tuple(map(len, value)) == (0, 1, 1)
+    more = [
+        ((), (1,)), ((), (1,), (0,), ()), ((), (2,), (0,)), ((), (-1,), (0,)), ((), (0, 1), (0,)), ((), (), (0,)),
+        ((1,), (0,), (0,)),
+    ]
+    return Kind(((), (1,), (0,)), BadPlaces, is_right, more)
+
+
+def values(good=((1,) * 7, (0,) * 7, (-5,) * 7)):
+    def is_right(value):
+        return is_tuple_of(value, integers(-100, 100)) and tuple(map(len, value)) == (7, 7, 7)
+    zeros = (0,) * 7
+    more = [
+        (zeros,), (zeros,) * 4, (zeros, zeros), (zeros, zeros, (0,) * 6), (zeros, zeros, (0,) * 8),
+        [zeros, zeros, zeros],
+        (zeros, zeros, [0] * 7), (zeros, zeros, (0,) * 6 + (True,)), (zeros, zeros, (0,) * 6 + ("0",)),
+        (zeros, zeros, (0,) * 6 + (None,)), (zeros, zeros, (0,) * 6 + (101,)), (zeros, zeros, (0,) * 6 + (-101,)),
+        (zeros, zeros, (0,) * 6 + ((0,),)), {0: zeros, 1: zeros, 2: zeros}, (zeros, zeros, "0000000"),
+        (zeros, zeros, None),
+        (zeros, zeros, {}),
+    ]
+    return Kind(good, BadValues, is_right, more)
+
+
+def map_values():
+    """Values for best_map on the island of MAP: of 2 or 3 lands."""
+    kind = values()
+    two = ((0,) * 7,) * 2
+    return Kind(kind.good, BadValues, lambda value: kind.is_right(value) or value == two, kind.wrong)
+
+
+def check_wrong(case, function, *kinds):
+    """Each wrong value in each place raises the error of its place, and of several the leftmost one does."""
+    good = [kind.good for kind in kinds]
+    function(*good)
+    for place, kind in enumerate(kinds):
+        for value in kind.wrong:
+            expect(case, function, good[:place] + [value] + good[place + 1:], kind.error)
+            for later in range(place + 1, len(kinds)):
+                args = good[:place] + [value] + good[place + 1:]
+                args[later] = kinds[later].wrong[-1]
+                expect(case, function, args, kind.error)
+        for later in range(place + 1, len(kinds)):
+            for value in kinds[later].wrong:
+                args = list(good)
+                args[place] = kind.wrong[0]
+                args[later] = value
+                expect(case, function, args, kind.error)
+
+
+def expect(case, function, args, error):
+    before = deepcopy(args)
+    try:
+        got = function(*args)
+    except error as raised:
+        case.assertIs(type(raised), error, (function.__name__, args))
+    else:
+        case.fail(f"{function.__name__}{tuple(args)!r} gave {got!r} instead of {error.__name__}")
+    case.assertEqual(repr(args), repr(before))
+
+
+def check_shows(case, function, args, rights, nears):
+    """A function that shows something: True for what is right, False for what is near, and for all kinds of things."""
+    for value in rights:
+        case.assertIs(function(*args, value), True, value)
+    for value in list(nears) + EVERYTHING:
+        if not any(repr(value) == repr(right) for right in rights):
+            before = repr(value)
+            case.assertIs(function(*args, value), False, (function.__name__, args, value))
+            case.assertEqual(repr(value), before)
