@@ -1,11 +1,17 @@
 """Which values may come for an argument, and the errors that the others raise."""
 
-from starlands.errors import BadArms, BadCell, BadCount, BadLand, BadLands, BadLength, BadMap, BadTaking, BadValues
+from starlands.errors import (
+    BadArms, BadCell, BadCount, BadLand, BadLands, BadLength, BadMap, BadOrders, BadPrices, BadRule, BadTaking,
+    BadTold, BadValues,
+)
 
 MOST_ARMS = 4
 MOST_LENGTH = 4
 LAST_LAND = 4
 MOST_WORTH = 100
+MOST_PRICE = 1000
+GREAT_ARMS = 12
+GREAT_LENGTH = 30
 
 
 def is_whole(value):
@@ -110,6 +116,13 @@ def check_island(arms, length, lands):
     check_lands(length, lands)
 
 
+def check_great_island(arms, length, lands):
+    """As `check_island`, for islands of up to 12 arms of up to 30 cells."""
+    check_arms(arms, GREAT_ARMS)
+    check_length(length, GREAT_LENGTH)
+    check_lands(length, lands)
+
+
 def check_chart(chart):
     """BadMap for what is no map."""
     if not is_chart(chart):
@@ -164,3 +177,42 @@ def check_values(chart, values):
     """BadValues for what is no values for the lands and cells of the map."""
     if not are_values(values, max(chart[1]) + 1, len(chart[1])):
         raise BadValues("no values for the lands and cells of the map")
+
+
+def check_told(cells, lands, told):
+    """BadTold for what is no told cells of an island of so many cells with so many lands."""
+    if not isinstance(told, tuple):
+        raise BadTold(None)
+    behind = 0
+    for index, pair in enumerate(told):
+        if not is_pair(pair) or not is_integer(pair[0], behind, cells - 1) or not is_integer(pair[1], 0, lands - 1):
+            raise BadTold(index)
+        behind = pair[0] + 1
+
+
+def check_rule(chart, rule):
+    """BadRule for what is no rule for the lands of the map."""
+    if not isinstance(rule, tuple):
+        raise BadRule(None)
+    before = (-1, -1)
+    for index, pair in enumerate(rule):
+        if not is_rule_pair(chart, pair) or pair <= before:
+            raise BadRule(index)
+        before = pair
+
+
+def is_rule_pair(chart, value):
+    """Whether the value is a pair of unlike lands of the map."""
+    return is_pair(value) and is_land(chart, value[0]) and is_land(chart, value[1]) and value[0] != value[1]
+
+
+def check_prices(chart, prices):
+    """BadPrices for what is no prices for the lands of the map."""
+    if not are_integers(prices, 0, MOST_PRICE) or len(prices) != max(chart[1]) + 1:
+        raise BadPrices(f"no integer from 0 to {MOST_PRICE} for each land")
+
+
+def check_order(many, order):
+    """BadOrders for what is no tuple of the integers from 0 to less than so many, each once."""
+    if not are_integers(order, 0, many - 1) or len(order) != many or len(set(order)) != many:
+        raise BadOrders(f"no tuple of the integers from 0 to {many - 1}, each once")

@@ -3,13 +3,11 @@
 from math import comb, factorial, perm
 
 from starlands.borders import orders
-from starlands.checks import check_arms, check_chart, check_island, check_lands, check_length, is_like
+from starlands.checks import check_chart, check_great_island, check_island, is_like
+from starlands.errors import NotOne
 from starlands.hubs import is_frozen, own_lands
 from starlands.islands import touch_table
 from starlands.takings import made, ready_takings
-
-GREAT_ARMS = 12
-GREAT_LENGTH = 30
 
 
 def same_class(one, other):
@@ -22,6 +20,12 @@ def same_class(one, other):
         # The same orders leave the same arms bare: the other one is frozen, too.
         return one[1][0] == other[1][0] and orders(one) == orders(other)
     return own_lands(one) == own_lands(other)
+
+
+def check_one_class(one, other):
+    """BadMap for what is no map, NotOne for two maps that are not of one class, those of unlike islands, too."""
+    if not same_class(one, other):
+        raise NotOne("not of one class")
 
 
 def steps_from(chart):
@@ -56,12 +60,22 @@ def class_size(chart):
 def map_count(arms, length, lands):
     """The number of all maps with so many lands."""
     check_island(arms, length, lands)
+    return count_maps(arms, length, lands)
+
+
+def count_maps(arms, length, lands):
+    """As `map_count`, for what has been checked."""
     return comb(arms * length, lands - 1) * factorial(lands)
 
 
 def class_counts(arms, length, lands):
     """The numbers of classes of maps that are not frozen and of those that are."""
     check_island(arms, length, lands)
+    return count_classes(arms, lands)
+
+
+def count_classes(arms, lands):
+    """As `class_counts`, for what has been checked."""
     return (perm(lands, arms), order_choices(arms, lands) * factorial(lands))
 
 
@@ -72,13 +86,20 @@ def order_choices(arms, lands):
 
 def great_class(arms, length, lands):
     """The number of maps of a class that is not frozen, on islands of up to 12 arms of up to 30 cells."""
-    check_arms(arms, GREAT_ARMS)
-    check_length(length, GREAT_LENGTH)
-    check_lands(length, lands)
+    check_great_island(arms, length, lands)
+    return count_class(arms, length, lands)
+
+
+def count_class(arms, length, lands):
+    """As `great_class`, for what has been checked."""
     if lands < arms:
         return 0
-    one_bare = arms * border_choices(arms - 1, length, lands - 1)
-    return (border_choices(arms, length, lands - 1) + one_bare) * factorial(lands - arms)
+    return warm_choices(arms, length, lands - 1) * factorial(lands - arms)
+
+
+def warm_choices(arms, length, many):
+    """The number of ways to place so many borders on the arms with at most one of these bare."""
+    return border_choices(arms, length, many) + arms * border_choices(arms - 1, length, many)
 
 
 def border_choices(arms, length, many):

@@ -61,15 +61,27 @@ def traced(chart, row):
     check_chart(chart)
     if not isinstance(row, tuple) or len(row) > MOST_TAKINGS:
         raise BadRow(None)
+    steps = walked(chart, row)
+    if len(steps) <= len(row):
+        raise BadRow(len(steps) - 1)
+    return tuple([(chart[0], cells) for cells in steps])
+
+
+def walked(chart, row):
+    """The lands of all cells at first and behind each taking, up to the first that is none or cannot be made."""
     table = touch_table(chart)
-    cells = chart[1]
-    maps = [chart]
-    for index, taking in enumerate(row):
-        if not is_taking(chart, taking) or not can_make(table, cells, taking):
-            raise BadRow(index)
-        cells = made(cells, taking)
-        maps.append((chart[0], cells))
-    return tuple(maps)
+    steps = [chart[1]]
+    for taking in row:
+        if not is_taking(chart, taking) or not can_make(table, steps[-1], taking):
+            break
+        steps.append(made(steps[-1], taking))
+    return steps
+
+
+def leads_to(one, other, row):
+    """Whether all takings of a tuple can be made, one after another, and make the second map of the first."""
+    steps = walked(one, row)
+    return len(steps) == len(row) + 1 and steps[-1] == other[1]
 
 
 def taken_back(chart, taking):

@@ -1,9 +1,9 @@
 """From map to map: the shortest rows, and how many there are."""
 
-from starlands.checks import check_both, check_chart, check_count, is_taking
+from starlands.checks import check_both, check_chart, check_count
 from starlands.classes import steps_from
 from starlands.islands import touch_table
-from starlands.takings import can_make, made, ready_takings
+from starlands.takings import leads_to, made, ready_takings
 
 MOST_AROUND = 60
 MOST_WAYS = 8
@@ -42,15 +42,7 @@ def shows_fewest(one, other, value):
     least = distance(one, other)
     if least is None:
         return value is None
-    if not isinstance(value, tuple) or len(value) != least:
-        return False
-    table = touch_table(one)
-    cells = one[1]
-    for taking in value:
-        if not is_taking(one, taking) or not can_make(table, cells, taking):
-            return False
-        cells = made(cells, taking)
-    return cells == other[1]
+    return isinstance(value, tuple) and len(value) == least and leads_to(one, other, value)
 
 
 def farthest(chart):

@@ -195,14 +195,37 @@ def sum_worth(chart, values):
     return sum(values[chart[1][cell]][cell] for cell in range(len(chart[1])))
 
 
+class Numbers:
+    """Integers from all over a range, the same ones for the same seed."""
+
+    def __init__(self, seed):
+        self.state = seed
+
+    def below(self, many):
+        self.state = (self.state * 1103515245 + 12345) % 2147483648
+        return (self.state >> 8) % many
+
+    def pick(self, things):
+        return things[self.below(len(things))]
+
+
 def some_values(lands, cells, seed=1, most=100):
     """Values from all over the range, the same ones for the same seed."""
-    state = seed
-    table = []
-    for _ in range(lands):
-        row = []
-        for _ in range(cells):
-            state = (state * 1103515245 + 12345) % 2147483648
-            row.append((state >> 8) % (2 * most + 1) - most)
-        table.append(tuple(row))
-    return tuple(table)
+    numbers = Numbers(seed)
+    return tuple(tuple(numbers.below(2 * most + 1) - most for _ in range(cells)) for _ in range(lands))
+
+
+@lru_cache(None)
+def kinds_of_classes(arms, length, lands):
+    """The maps of one class that is not frozen, and of a frozen one for each way to part the lands among the arms."""
+    found = {}
+    for chart in all_maps(arms, length, lands):
+        counts = None if not frozen(chart) else tuple(map(len, order_of(chart)[0]))
+        if counts not in found:
+            found[counts] = sorted(walk(chart))
+    return list(found.values())
+
+
+def classes_up_to(most):
+    """Classes of at most so many maps of every island and number of lands."""
+    return [maps for size in SIZES for maps in kinds_of_classes(*size) if len(maps) <= most]

@@ -3,8 +3,8 @@
 from copy import deepcopy
 
 from starlands.errors import (
-    BadArms, BadCell, BadCount, BadLand, BadLands, BadLength, BadMap, BadOrders, BadPlaces, BadRow, BadRows, BadTaking,
-    BadValues,
+    BadArms, BadCell, BadCount, BadLand, BadLands, BadLength, BadMap, BadOrders, BadPlaces, BadPrices, BadRow, BadRows,
+    BadRule, BadTaking, BadTold, BadValues, InvalidText, NotFrozen, NotOne, NotText,
 )
 from tests import plain
 
@@ -51,13 +51,19 @@ def integers(low, high):
 
 
 class Kind:
-    """A kind of argument: a right value, which other ones are right, and the error of the rest."""
+    """A kind of argument: a right value, which other ones are right, and the error of the rest.
+
+    The error is a class, or a function that gives, for a wrong value, the class and the fields.
+    """
 
     def __init__(self, good, error, is_right, more=()):
         self.good = good
         self.error = error
         self.is_right = is_right
         self.wrong = [value for value in EVERYTHING + list(more) if not is_right(value)]
+
+    def raised(self, value):
+        return (self.error, {}) if isinstance(self.error, type) else self.error(value)
 
 
 def integer(good, error, low, high):
@@ -116,10 +122,31 @@ def taking():
     return Kind((1, 3), BadTaking, is_right, [(3, 0), (0, 7), (-1, 0), (0, -1), (1, 3, 0)])
 
 
+def first_wrong(value, is_right):
+    """The index of the first thing that is not right behind those before it, None if the value is no tuple."""
+    if type(value) is not tuple:
+        return None
+    return next(at for at in range(len(value)) if not is_right(value[:at], value[at]))
+
+
+def is_int_pair(value, first, second):
+    """Whether the value is a pair of integers from 0 to less than the two."""
+    if type(value) is not tuple or len(value) != 2:
+        return False
+    return plain.is_int(value[0], 0, first - 1) and plain.is_int(value[1], 0, second - 1)
+
+
 def row():
     def is_right(value):
         return value == () and type(value) is tuple
-    return Kind(((1, 3),), BadRow, is_right, [((1, 3), (True, 0)), ((1, 4),), ((1, 3), (1, 3)), ((1, 3), [1, 0])])
+
+    def fits(before, value):
+        there = MAP
+        for made in before:
+            there = plain.behind(there, made)
+        return is_int_pair(value, 3, 7) and plain.can(there, value)
+    more = [((1, 3), (True, 0)), ((1, 4),), ((1, 3), (1, 3)), ((1, 3), [1, 0])]
+    return Kind(((1, 3),), lambda value: (BadRow, {"index": first_wrong(value, fits)}), is_right, more)
 
 
 def rows():
@@ -171,31 +198,123 @@ def map_values():
     return Kind(kind.good, BadValues, lambda value: kind.is_right(value) or value == two, kind.wrong)
 
 
+def told():
+    """Told cells of the island of MAP with 3 lands."""
+    def fits(before, value):
+        return is_int_pair(value, 7, 3) and all(pair[0] < value[0] for pair in before)
+
+    def is_right(value):
+        return type(value) is tuple and all(fits(value[:at], value[at]) for at in range(len(value)))
+    more = [
+        ((0, 0), (0, 1)), ((1, 0), (0, 1)), ((0, 0), (7, 0)), ((0, 0), (6, 3)), ((0, 0), (1, -1)), ((-1, 0), (1, 0)),
+        ((0, 0), (1, 1), (1, 1)), ((0, 0), (1, True)), ((0, 0), (True, 1)), ((0, 0), [1, 1]), ((0, 0), (1, 1, 1)),
+        ((0, 0), (1,)), ((0, 0), (1, None), (0, 0)), [(0, 0)], {0: 0}, ((0, 0), (2, 0), (4, 0), (3, 0), (9, 9)),
+        ((0, 0), "11"), ((0, 0), {1: 1, 2: 2}), ((0, 0), (1, (1,))), ((0, 0), ([], 1)), ((0, 0), (6, 10 ** 30)),
+        tuple((cell, 0) for cell in range(8)),
+    ]
+    return Kind(((0, 0), (6, 2)), lambda value: (BadTold, {"index": first_wrong(value, fits)}), is_right, more)
+
+
+def rule():
+    """Rules for the lands of MAP."""
+    def fits(before, value):
+        return is_int_pair(value, 3, 3) and value[0] != value[1] and all(pair < value for pair in before)
+
+    def is_right(value):
+        return type(value) is tuple and all(fits(value[:at], value[at]) for at in range(len(value)))
+    more = [
+        ((0, 1), (0, 1)), ((1, 0), (0, 1)), ((0, 1), (1, 1)), ((0, 1), (1, 3)), ((0, 1), (3, 1)), ((0, 1), (-1, 1)),
+        ((0, 1), (1, -1)), ((0, 1), (0, 2), (0, 1)), ((0, True),), ((False, 1),), ((0, 1), (1, False)), [(0, 1)],
+        ((0, 1), [0, 2]), ((0, 1), (0, 2, 1)), ((0, 1), (0,)), ((0, 1), None), ((0, 1), "02"), ((0, 1), {0: 2, 1: 2}),
+        ((0, 1), (0, (2,))), ((0, 1), ({}, 2)), ((0, 1), (2, 10 ** 30), (0, 0)), ((0, 2), (0, 1), (0, 0)),
+    ]
+    return Kind(((0, 1), (1, 0)), lambda value: (BadRule, {"index": first_wrong(value, fits)}), is_right, more)
+
+
+def prices(good=(1, 0, 1000)):
+    """Prices for the lands of MAP."""
+    is_tuple = integers(0, 1000)
+    more = [
+        (1, 1), (1, 1, 1, 1), [1, 1, 1], (1, 1, -1), (1, 1, 1001), (1, 1, True), (False, 1, 1), (1, 1, "1"),
+        (1, 1, None), (1, 1, (1,)), (1, 1, [1]), {0: 1, 1: 1, 2: 1}, "111", (1, 1, 10 ** 30), 3,
+    ]
+    return Kind(good, BadPrices, lambda value: is_tuple(value) and len(value) == 3, more)
+
+
+def order(good=(2, 0, 1)):
+    """Orders of the lands or the arms of MAP."""
+    is_tuple = integers(0, 2)
+    more = [
+        (0, 1), (0, 1, 2, 3), (0, 1, 1), (1, 2, 3), (0, 1, 3), (-1, 0, 1), [0, 1, 2], (0, 1, "2"), (0, 1, None),
+        (False, 1, 2), (0, True, 2), {0: 0, 1: 1, 2: 2}, "012", (0, 1, (2,)), (0, 1, [2]), (0, 1, 2, 2), (0, 0, 1, 2),
+    ]
+    return Kind(good, BadOrders, lambda value: is_tuple(value) and sorted(value) == [0, 1, 2], more)
+
+
+def text():
+    """Texts of maps; of wrong ones the place is told for strings in which it is at once."""
+    places = {"": 0, "0": 1, "ab": 0, "(0, 0)": 0, "0 | 0 0 | 0 1 | 2": 17, "0 | 5": 4, "0\t| 0 1 | 2 2 | 0 0": 1}
+
+    def error(value):
+        return (InvalidText, {"place": places[value]}) if type(value) is str else (NotText, {})
+    return Kind("0 | 0 0 | 0 1 | 2 2", error, lambda value: False, list(places))
+
+
+UNLIKE = [
+    (3, (0, 0, 0, 0, 0, 0, 1)), (3, (0, 0, 0, 0, 0, 0, 0, 0, 1, 2)), (4, (0, 0, 0, 0, 0, 0, 0, 1, 2)),
+    (3, (0, 0, 0, 1)), (3, (0, 0, 0, 0, 0, 1, 2)), (3, (1, 1, 1, 1, 0, 2, 2)), (3, (0, 1, 2, 0, 0, 0, 0)),
+    (3, (0, 0, 0, 2, 2, 1, 1)), MAP,
+]
+
+
+def class_chart(first, good, unlike=NotOne):
+    """A map of the class of the first one; other maps of its island and with as many lands are NotOne."""
+    def is_right(value):
+        return plain.is_map(value) and value in plain.walk(first)
+
+    def error(value):
+        if not plain.is_map(value):
+            return (BadMap, {})
+        return (NotOne if plain.size_of(value) == plain.size_of(first) else unlike, {})
+    return Kind(good, error, is_right, UNLIKE)
+
+
+def frozen_chart(good):
+    """A frozen map."""
+    def is_right(value):
+        return plain.is_map(value) and plain.frozen(value)
+
+    def error(value):
+        return (NotFrozen if plain.is_map(value) else BadMap, {})
+    return Kind(good, error, is_right, UNLIKE)
+
+
 def check_wrong(case, function, *kinds):
     """Each wrong value in each place raises the error of its place, and of several the leftmost one does."""
     good = [kind.good for kind in kinds]
     function(*good)
     for place, kind in enumerate(kinds):
         for value in kind.wrong:
-            expect(case, function, good[:place] + [value] + good[place + 1:], kind.error)
+            error = kind.raised(value)
+            args = good[:place] + [value] + good[place + 1:]
+            expect(case, function, args, *error)
             for later in range(place + 1, len(kinds)):
-                args = good[:place] + [value] + good[place + 1:]
-                args[later] = kinds[later].wrong[-1]
-                expect(case, function, args, kind.error)
+                expect(case, function, args[:later] + [kinds[later].wrong[-1]] + args[later + 1:], *error)
         for later in range(place + 1, len(kinds)):
             for value in kinds[later].wrong:
                 args = list(good)
                 args[place] = kind.wrong[0]
                 args[later] = value
-                expect(case, function, args, kind.error)
+                expect(case, function, args, *kind.raised(kind.wrong[0]))
 
 
-def expect(case, function, args, error):
+def expect(case, function, args, error, fields):
     before = deepcopy(args)
     try:
         got = function(*args)
     except error as raised:
         case.assertIs(type(raised), error, (function.__name__, args))
+        case.assertEqual(vars(raised), fields, (function.__name__, args))
     else:
         case.fail(f"{function.__name__}{tuple(args)!r} gave {got!r} instead of {error.__name__}")
     case.assertEqual(repr(args), repr(before))
