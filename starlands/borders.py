@@ -33,6 +33,11 @@ def lands_met(hub, row):
     return tuple(met)
 
 
+def arrangement_of(chart):
+    """The pair of the hub's land and the orders of a map."""
+    return (chart[1][0], orders(chart))
+
+
 def hub_land(chart):
     """The land that holds the hub."""
     check_chart(chart)

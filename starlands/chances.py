@@ -1,8 +1,7 @@
 """By chance: each taking that can be made is as likely."""
 
 from starlands.checks import check_chart, check_count
-from starlands.classes import check_one_class, class_size, steps_from
-from starlands.errors import TooMany
+from starlands.classes import check_one_class, check_size, steps_from
 from starlands.islands import touch_table
 from starlands.ratios import last_unknown, plus, ratio
 from starlands.takings import made, ready_takings
@@ -89,26 +88,25 @@ def mean_areas(chart):
 def mean_first(one, other):
     """The mean number of takings until the second map is there for the first time, 0 if it is the first."""
     check_few(one, other)
-    return mean_until(one, other, class_weights(one))
+    return mean_until(one, [other[1]], class_weights(one))
 
 
 def check_few(one, other):
     """BadMap, NotOne or TooMany for what are not two maps of one class of at most 30 maps."""
     check_one_class(one, other)
-    if class_size(one) > MOST_MAPS:
-        raise TooMany(MOST_MAPS)
+    check_size(one, MOST_MAPS)
 
 
-def mean_until(one, other, costs):
-    """The mean number of steps until the second map of a class is there for the first time.
+def mean_until(chart, goals, costs):
+    """The mean number of steps until the cells are some of the goals for the first time, 0 if they are already.
 
     The costs tell, for the cells of each map, its number of takings times the mean number of steps up to a taking.
     """
-    if one == other:
+    if chart[1] in goals:
         return (0, 1)
-    table = touch_table(one)
-    # The unknowns are the means from all maps but the second one, where it is 0; the one that is asked for comes last.
-    unknowns = [cells for cells in sorted(costs) if cells not in (one[1], other[1])] + [one[1]]
+    table = touch_table(chart)
+    # The unknowns are the means from all maps but the goals, where they are 0; the one that is asked for comes last.
+    unknowns = [cells for cells in sorted(costs) if cells not in goals and cells != chart[1]] + [chart[1]]
     rows = []
     for cells in unknowns:
         ready = ready_takings(table, cells)

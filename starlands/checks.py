@@ -1,15 +1,18 @@
 """Which values may come for an argument, and the errors that the others raise."""
 
 from starlands.errors import (
-    BadArms, BadCell, BadCount, BadLand, BadLands, BadLength, BadMap, BadOrders, BadPrices, BadRule, BadTaking,
-    BadTold, BadValues,
+    BadAreas, BadArms, BadCell, BadCells, BadCount, BadLand, BadLands, BadLength, BadMap, BadOrders, BadPairs,
+    BadPrices, BadRows, BadRule, BadTaking, BadTold, BadTries, BadValues,
 )
 
 MOST_ARMS = 4
 MOST_LENGTH = 4
 LAST_LAND = 4
+MOST_CELLS = 17
 MOST_WORTH = 100
 MOST_PRICE = 1000
+MOST_TRIES = 40
+MOST_FOLLOWERS = 8
 GREAT_ARMS = 12
 GREAT_LENGTH = 30
 
@@ -89,6 +92,13 @@ def are_values(value, lands, cells):
     if not isinstance(value, tuple) or len(value) != lands:
         return False
     return all(are_integers(part, -MOST_WORTH, MOST_WORTH) and len(part) == cells for part in value)
+
+
+def is_told_row(value, number, most):
+    """Whether the value is a pair of just this number and a tuple of at most so many things."""
+    if not is_pair(value) or not is_whole(value[0]) or value[0] != number:
+        return False
+    return isinstance(value[1], tuple) and len(value[1]) <= most
 
 
 def check_arms(arms, most=MOST_ARMS):
@@ -216,3 +226,47 @@ def check_order(many, order):
     """BadOrders for what is no tuple of the integers from 0 to less than so many, each once."""
     if not are_integers(order, 0, many - 1) or len(order) != many or len(set(order)) != many:
         raise BadOrders(f"no tuple of the integers from 0 to {many - 1}, each once")
+
+
+def check_tries(lands, cells, tries):
+    """BadTries for what is no tuple of at most 40 pairs, each of one of so many lands and one of so many cells."""
+    if not isinstance(tries, tuple) or len(tries) > MOST_TRIES:
+        raise BadTries(None)
+    for index, pair in enumerate(tries):
+        if not is_pair(pair) or not is_integer(pair[0], 0, lands - 1) or not is_integer(pair[1], 0, cells - 1):
+            raise BadTries(index)
+
+
+def check_followers(chart, lands):
+    """BadRows for what is no tuple of 1 to 8 things, BadLand if these are no lands, unlike neighbors."""
+    if not isinstance(lands, tuple) or not 1 <= len(lands) <= MOST_FOLLOWERS:
+        raise BadRows(f"no tuple of 1 to {MOST_FOLLOWERS} things")
+    before = None
+    for land in lands:
+        check_land(chart, land)
+        if land == before:
+            raise BadLand("two alike lands next to each other")
+        before = land
+
+
+def check_areas(lands, areas):
+    """BadAreas for what is no tuple of areas of so many lands."""
+    if not are_integers(areas, 1, MOST_CELLS) or len(areas) != lands:
+        raise BadAreas(f"no integer from 1 to {MOST_CELLS} for each land")
+
+
+def check_pairs(lands, pairs):
+    """BadPairs for what is no ascending tuple of unlike pairs of so many lands, the lesser first."""
+    if not isinstance(pairs, tuple):
+        raise BadPairs("no tuple")
+    before = (-1, -1)
+    for pair in pairs:
+        if not are_integers(pair, 0, lands - 1) or len(pair) != 2 or pair[0] >= pair[1] or pair <= before:
+            raise BadPairs("no ascending tuple of unlike pairs of lands, the lesser first")
+        before = pair
+
+
+def check_cells(many, cells):
+    """BadCells for what is no ascending tuple of unlike ones of so many cells."""
+    if not are_integers(cells, 0, many - 1) or cells != tuple(sorted(set(cells))):
+        raise BadCells(f"no ascending tuple of unlike cells from 0 to {many - 1}")

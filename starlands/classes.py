@@ -4,7 +4,7 @@ from math import comb, factorial, perm
 
 from starlands.borders import orders
 from starlands.checks import check_chart, check_great_island, check_island, is_like
-from starlands.errors import NotOne
+from starlands.errors import NotOne, TooMany
 from starlands.hubs import is_frozen, own_lands
 from starlands.islands import touch_table
 from starlands.takings import made, ready_takings
@@ -30,13 +30,21 @@ def check_one_class(one, other):
 
 def steps_from(chart):
     """For the cells of each map of the class, the least number of takings that make it of this one."""
+    return steps_by(chart, ready_takings)
+
+
+def steps_by(chart, choices):
+    """For the cells of each map that chosen takings make of a map, the least number of them; nearer maps come first.
+
+    For the table of what touches what and the cells of a map, `choices` gives the takings that may be made.
+    """
     table = touch_table(chart)
     steps = {chart[1]: 0}
     layer = [chart[1]]
     while layer:
         ahead = []
         for cells in layer:
-            for taking in ready_takings(table, cells):
+            for taking in choices(table, cells):
                 behind = made(cells, taking)
                 if behind not in steps:
                     steps[behind] = steps[cells] + 1
@@ -55,6 +63,12 @@ def class_size(chart):
     """The number of maps of the class."""
     check_chart(chart)
     return len(steps_from(chart))
+
+
+def check_size(chart, most):
+    """TooMany for a map of a class of more maps than the most."""
+    if class_size(chart) > most:
+        raise TooMany(most)
 
 
 def map_count(arms, length, lands):

@@ -44,4 +44,4 @@ def drawn_first(one, other):
     """The mean number of draws until the second map is there for the first time, 0 if it is the first."""
     check_few(one, other)
     pairs = pair_count(one[1])
-    return mean_until(one, other, {cells: pairs for cells in steps_from(one)})
+    return mean_until(one, [other[1]], {cells: pairs for cells in steps_from(one)})

@@ -69,7 +69,11 @@ def arm_rows(chart):
 def areas(chart):
     """The numbers of cells of all lands."""
     check_chart(chart)
-    cells = chart[1]
+    return land_areas(chart[1])
+
+
+def land_areas(cells):
+    """As `areas`, for the cells of a map."""
     return tuple([cells.count(land) for land in range(max(cells) + 1)])
 
 

@@ -2,7 +2,7 @@
 
 from heapq import heappop, heappush
 
-from starlands.checks import check_both, check_chart, check_prices, is_pair, is_whole
+from starlands.checks import check_both, check_chart, check_prices, is_told_row, is_whole
 from starlands.classes import check_one_class
 from starlands.islands import touch_table
 from starlands.takings import leads_to, made, ready_takings
@@ -41,12 +41,14 @@ def shows_cheap_row(one, other, prices, value):
     best = cheap_row(one, other, prices)
     if best is None:
         return value is None
-    if not is_pair(value) or not is_whole(value[0]) or value[0] != best[0]:
+    if not is_told_row(value, best[0], MOST_PRICED) or not leads_to(one, other, value[1]):
         return False
-    row = value[1]
-    if not isinstance(row, tuple) or len(row) > MOST_PRICED or not leads_to(one, other, row):
-        return False
-    return sum([prices[land] for land, _ in row]) == best[0]
+    return price_of(value[1], prices) == best[0]
+
+
+def price_of(row, prices):
+    """The sum of the prices of takings."""
+    return sum([prices[land] for land, _ in row])
 
 
 def cheapest_from(chart, prices):

@@ -4,6 +4,7 @@ from itertools import combinations, permutations
 
 from starlands.checks import check_chart, check_island, check_told, inner_cell
 from starlands.classes import steps_from
+from starlands.counts import count_with
 from starlands.errors import TooMany
 from starlands.ratios import ratio
 
@@ -57,41 +58,11 @@ def hub_counts(arms, length, lands, told):
     check_island(arms, length, lands)
     check_told(arms * length + 1, lands, told)
     fixed = dict(told)
-    return [count_with(arms, length, lands, hub, fixed) for hub in range(lands)]
+    hubs = [fixed[0]] if 0 in fixed else list(range(lands))
 
-
-def count_with(arms, length, lands, hub, fixed):
-    """The number of all maps that fit with this land at the hub."""
-    counts = {1 << hub: int(fixed.get(0, hub) == hub)}
-    for arm in range(arms):
-        ahead = {}
-        for arm_met, rows in rows_by_lands(length, lands, hub, fixed, arm).items():
-            for met, many in counts.items():
-                # A land other than the hub's that were on two arms would not hang together.
-                if met & arm_met == 1 << hub:
-                    ahead[met | arm_met] = ahead.get(met | arm_met, 0) + many * rows
-        counts = ahead
-    return counts.get((1 << lands) - 1, 0)
-
-
-def rows_by_lands(length, lands, hub, fixed, arm):
-    """For each set of lands, the hub's too, how many rows of lands that fit on the arm have just these.
-
-    A set of lands is an integer with a bit for each of them.
-    """
-    counts = {(1 << hub, hub): 1}
-    for cell in range(1 + arm * length, 1 + (arm + 1) * length):
-        ahead = {}
-        for (met, last), many in counts.items():
-            for land in range(lands):
-                if fixed.get(cell, land) == land and (land == last or not (met >> land) & 1):
-                    key = (met | (1 << land), land)
-                    ahead[key] = ahead.get(key, 0) + many
-        counts = ahead
-    sums = {}
-    for (met, _), many in counts.items():
-        sums[met] = sums.get(met, 0) + many
-    return sums
+    def is_allowed(cell, _, land):
+        return fixed.get(cell, land) == land
+    return [count_with(arms, length, lands, hub, is_allowed) if hub in hubs else 0 for hub in range(lands)]
 
 
 def sure_cells(arms, length, lands, told):

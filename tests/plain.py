@@ -1,5 +1,6 @@
 """What the document says, told once more the slow and plain way, without the package."""
 
+from fractions import Fraction
 from functools import lru_cache
 from itertools import combinations, islice, permutations, product
 
@@ -135,18 +136,43 @@ def all_takings(chart):
     return tuple(taking for taking in pairs if can(chart, taking))
 
 
-@lru_cache(None)
-def walk(chart):
-    """All maps that takings make of one, with the least number of takings."""
+def walk_by(chart, choose):
+    """All maps that takings make of a map, with the least number of these, if `choose` tells which may be made."""
     steps = {chart: 0}
     waiting = [chart]
     for one in waiting:
-        for taking in all_takings(one):
+        for taking in choose(one):
             other = behind(one, taking)
             if other not in steps:
                 steps[other] = steps[one] + 1
                 waiting.append(other)
     return steps
+
+
+@lru_cache(None)
+def walk(chart):
+    """All maps that takings make of one, with the least number of takings."""
+    return walk_by(chart, all_takings)
+
+
+@lru_cache(None)
+def ahead(chart):
+    """All maps that one taking makes of a map."""
+    return tuple(behind(chart, taking) for taking in all_takings(chart))
+
+
+def least_prices(chart, prices):
+    """The least prices to all maps of the class, by going over all takings until none makes a map cheaper."""
+    least = {chart: 0}
+    waiting = [chart]
+    for one in waiting:
+        for taking in all_takings(one):
+            other = behind(one, taking)
+            price = least[one] + prices[taking[0]]
+            if price < least.get(other, price + 1):
+                least[other] = price
+                waiting.append(other)
+    return least
 
 
 @lru_cache(None)
@@ -167,6 +193,16 @@ def turn_pair(one, other, most=6):
     steps = walk_turns(one, most)
     pairs = [(turns, steps[other, turns]) for turns in range(most + 1) if (other, turns) in steps]
     return pairs[0] if pairs else None
+
+
+def area_row(chart):
+    return tuple(chart[1].count(land) for land in range(lands_of(chart)))
+
+
+def ratio(value, bottom=1):
+    """The pair of a number's top and bottom."""
+    share = Fraction(value, bottom)
+    return (share.numerator, share.denominator)
 
 
 def cuts(chart):
@@ -224,6 +260,10 @@ def kinds_of_classes(arms, length, lands):
         if counts not in found:
             found[counts] = sorted(walk(chart))
     return list(found.values())
+
+
+def greatest_class(arms, length, lands):
+    return max(kinds_of_classes(arms, length, lands), key=len)
 
 
 def classes_up_to(most):

@@ -13,22 +13,6 @@ ALONE = (3, (0, 0, 0, 1))
 OTHERS = ((3, (0, 0, 0, 0, 0, 1, 2)), (3, (1, 1, 1, 1, 0, 2, 2)), (3, (0, 0, 0, 2, 2, 1, 1)))
 
 
-def least_prices(chart, prices):
-    """The least prices to all maps of the class, by going over all takings until none makes a map cheaper."""
-    least = {chart: 0}
-    changed = True
-    while changed:
-        changed = False
-        for one in list(least):
-            for taking in plain.all_takings(one):
-                other = plain.behind(one, taking)
-                price = least[one] + prices[taking[0]]
-                if price < least.get(other, price + 1):
-                    least[other] = price
-                    changed = True
-    return least
-
-
 def follow(chart, row):
     """The map behind the takings, each of which can be made."""
     for taking in row:
@@ -42,7 +26,7 @@ def is_paper(one, other, prices, value):
     numbers = dict(zip(maps, value))
     steps = [(chart, taking) for chart in maps for taking in plain.all_takings(chart)]
     return (
-        len(value) == len(maps) and numbers[one] == 0 and numbers[other] == least_prices(one, prices)[other]
+        len(value) == len(maps) and numbers[one] == 0 and numbers[other] == plain.least_prices(one, prices)[other]
         and all(numbers[plain.behind(*step)] - numbers[step[0]] <= prices[step[1][0]] for step in steps)
     )
 
@@ -80,7 +64,7 @@ class PricesTest(unittest.TestCase):
 
     def test_cheap_rows_and_prices(self):
         for chart, maps, prices in some_pairs(1):
-            least = least_prices(chart, prices)
+            least = plain.least_prices(chart, prices)
             self.assertEqual(cheapest_from(chart, prices), tuple(least[other] for other in maps))
             for other in maps[::max(1, len(maps) // 3)]:
                 self.check_row(chart, other, prices, least[other])
@@ -88,7 +72,7 @@ class PricesTest(unittest.TestCase):
     def test_all_pairs_of_a_class(self):
         for prices in ((0, 0, 0), (1000, 1000, 1000), (0, 1, 1000), (7, 0, 7), (1, 2, 4)):
             for one in plain.walk(WARM):
-                least = least_prices(one, prices)
+                least = plain.least_prices(one, prices)
                 self.assertEqual(cheapest_from(one, prices), tuple(least[other] for other in sorted(least)))
                 for other in least:
                     self.check_row(one, other, prices, least[other])

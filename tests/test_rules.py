@@ -35,15 +35,7 @@ def allowed(chart, rule):
 
 def walk(chart, rule):
     """All maps that takings by the rule make of a map, with the least number of takings."""
-    steps = {chart: 0}
-    waiting = [chart]
-    for one in waiting:
-        for taking in allowed(one, rule):
-            other = plain.behind(one, taking)
-            if other not in steps:
-                steps[other] = steps[one] + 1
-                waiting.append(other)
-    return steps
+    return plain.walk_by(chart, lambda one: allowed(one, rule))
 
 
 def smallest_row(one, other, rule):

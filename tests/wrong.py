@@ -3,8 +3,9 @@
 from copy import deepcopy
 
 from starlands.errors import (
-    BadArms, BadCell, BadCount, BadLand, BadLands, BadLength, BadMap, BadOrders, BadPlaces, BadPrices, BadRow, BadRows,
-    BadRule, BadTaking, BadTold, BadValues, InvalidText, NotFrozen, NotOne, NotText,
+    BadAreas, BadArms, BadCell, BadCells, BadCount, BadLand, BadLands, BadLength, BadMap, BadMaps, BadOrders, BadPairs,
+    BadPlaces, BadPrices, BadRow, BadRows, BadRule, BadTaking, BadTold, BadTries, BadValues, InvalidText, NotFrozen,
+    NotOne, NotText,
 )
 from tests import plain
 
@@ -287,6 +288,102 @@ def frozen_chart(good):
     def error(value):
         return (NotFrozen if plain.is_map(value) else BadMap, {})
     return Kind(good, error, is_right, UNLIKE)
+
+
+def maps(good, first=None):
+    """A tuple of 1 to 5 maps of the class of the first one, or of the first of themselves."""
+    def fits(before, value):
+        start = first or (before + (value,))[0]
+        return plain.is_map(value) and value in plain.walk(start)
+
+    def is_right(value):
+        is_tuple = type(value) is tuple and 1 <= len(value) <= 5
+        return is_tuple and all(fits(value[:at], value[at]) for at in range(len(value)))
+
+    def error(value):
+        if type(value) is not tuple or not 1 <= len(value) <= 5:
+            return (BadMaps, {"index": None})
+        return (BadMaps, {"index": first_wrong(value, fits)})
+    start = good[0]
+    more = [(start,) * 6, [start], {0: start}, start] + [(start, value) for value in UNLIKE + MAPS + WORDS + LISTS]
+    more += [(start, start, None, start), (start,) * 4 + (0,), (None,) * 5, (start,) * 5 + (None,), (None,) * 6]
+    return Kind(good, error, is_right, more + [(value, start) for value in MAPS])
+
+
+def followers(good=(0, 1)):
+    """Lands of MAP that may follow each other."""
+    def is_right(value):
+        is_tuple = integers(0, 2)(value) and 1 <= len(value) <= 8
+        return is_tuple and all(value[at] != value[at + 1] for at in range(len(value) - 1))
+
+    def error(value):
+        is_tuple = type(value) is tuple and 1 <= len(value) <= 8
+        return (BadLand if is_tuple else BadRows, {})
+    more = [
+        (0, 0), (0, 1, 1), (0, 1, 2, 2), (1, 1), (0, 3), (0, -1), (0, 1, 0, 1, 0, 1, 0, 1, 0), (0,) * 9, (None,) * 9,
+        (0, 1, 0, 1, 0, 1, 0, 0), (0, "1"), (0, (1,)), (0, [1]), {0: 0}, "01", (0, 1, 2, None), (0, 10 ** 30),
+    ]
+    return Kind(good, error, is_right, more)
+
+
+def areas(good=(4, 1, 2), is_summed=False):
+    """Areas for the lands of MAP, or of 2 or 3 lands with the sum of its cells."""
+    def is_right(value):
+        if not integers(1, 17)(value):
+            return False
+        return len(value) in (2, 3) and sum(value) == 7 if is_summed else len(value) == 3
+    more = [
+        (1, 6), (1, 1, 1, 4), [4, 1, 2], (4, 1, 2, 0), (0, 5, 2), (18, 1, 1), (4, 1, True), (4, 1, "2"), (4, 1, None),
+        (4, 1, (2,)), (4, 1, [2]), {0: 4, 1: 1, 2: 2}, "412", (-1, 4, 4), (4, 1, 10 ** 30), (7,), (4, 1, 1), (4, 1, 3),
+        (2, 1, 2, 2), (7, 0), (8, -1),
+    ]
+    return Kind(good, BadAreas, is_right, more)
+
+
+def pairs():
+    """Pairs of lands of MAP, the lesser first."""
+    def is_right(value):
+        if not is_tuple_of(value, lambda pair: is_int_pair(pair, 3, 3) and pair[0] < pair[1]):
+            return False
+        return list(value) == sorted(set(value))
+    more = [
+        ((0, 1), (0, 1)), ((0, 2), (0, 1)), ((1, 0),), ((0, 1), (2, 1)), ((0, 0),), ((0, 1), (1, 1)), ((0, 3),),
+        ((-1, 0),), ((0, 1), (0, 2), (1, 2), (1, 2)), [(0, 1)], ([0, 1],), ((0, True),), ((False, 1),), ((0, "1"),),
+        ((0, None),), ((0, 1, 2),), ((0,),), ((0, 1), None), ((0, 1), 2), ("01",), {0: 1}, ((0, (1,)),), ((0, [1]),),
+        ((0, {}),), ((0, 10 ** 30),), (0, 1), ((0, 1), ()),
+    ]
+    return Kind(((0, 1), (0, 2)), BadPairs, is_right, more)
+
+
+def tries(lands=3, cells=7, good=((1, 3), (1, 0))):
+    """Tries for MAP; the pairs of a row that is written are like them, with more lands and cells."""
+    def fits(_, value):
+        return is_int_pair(value, lands, cells)
+
+    def is_right(value):
+        return type(value) is tuple and len(value) <= 40 and all(fits((), pair) for pair in value)
+
+    def error(value):
+        is_short = type(value) is tuple and len(value) <= 40
+        return (BadTries, {"index": first_wrong(value, fits) if is_short else None})
+    more = [
+        ((1, 3),) * 41, (None,) * 41, ((1, 3),) * 39 + (None,), ((1, 3), (lands, 3)), ((1, 3), (-1, 3)),
+        ((1, 3), (1, cells)), ((1, 3), (1, -1)), ((1, 3), (True, 3)), ((1, 3), (1, False)), ((1, 3), [1, 3]),
+        ((1, 3), (1, 3, 0)), ((1, 3), (1,)), [(1, 3)], {1: 3}, ((1, 3), None, (1, 3)), ((1, 3), "13"), (1, 3),
+        ((1, 3), {1: 3, 2: 4}), ((1, "3"),), ((1, None),), ((1, (3,)),), ((1, [3]),), ((1, 10 ** 30),),
+    ]
+    return Kind(good, error, is_right, more)
+
+
+def cells(good=(0, 3)):
+    """Fixed cells of MAP."""
+    def is_right(value):
+        return integers(0, 6)(value) and list(value) == sorted(set(value))
+    more = [
+        (0, 0), (1, 0), (0, 7), (-1, 0), (0, 1, 1), (0, 2, 1), [0, 3], {0: 0}, "03", (0, True), (False, 3), (0, "3"),
+        (0, None), (0, (3,)), (0, [3]), (0, {}), (0, 10 ** 30), ((0, 3),), tuple(range(8)), (6, 5, 4, 3, 2, 1, 0),
+    ]
+    return Kind(good, BadCells, is_right, more)
 
 
 def check_wrong(case, function, *kinds):
